@@ -1,0 +1,1 @@
+"""Latchgrove: a tree of pages under many hands, latches, a log and falls."""

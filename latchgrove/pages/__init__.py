@@ -1,0 +1,1 @@
+"""Pages, the trees made of them, and looks into these."""

@@ -1,0 +1,1 @@
+"""The shapes of trees: how many there are, and the trees of one."""

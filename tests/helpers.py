@@ -1,0 +1,92 @@
+"""Things that many tests share; nothing here calls the package."""
+
+# Of anything: what [1] says may be handed in where a refusal is told.
+DEEP, DEEP_ROW = 1, (2, 2)
+for _ in range(3):
+    DEEP = ([{"deep": DEEP}],)
+    DEEP_ROW = (((DEEP_ROW,),),)
+
+ANYTHING = (
+    None, True, False, -1, 10 ** 39, -10 ** 39, "", "1", "leaf", "a text", (), (1,), (1, 2), (1, 2, 3),
+    [], [1, 2], {}, {"a": 1}, {1: (2, 3)}, (None, None), ((), ()), [()], ([],), ({},), (True, False),
+    ("leaf", (), 0), (4, 1, ()), (4, 1, [(1, ("leaf", (), 0))]), DEEP, DEEP_ROW, (DEEP, DEEP_ROW),
+)
+NO_WHOLE = tuple(thing for thing in ANYTHING if type(thing) is not int)
+
+
+def outcome(function, *arguments, **named):
+    """What a call tells, or the class of what it raises."""
+    try:
+        return ("told", function(*arguments, **named))
+    except ValueError as error:
+        return ("raised", type(error))
+
+
+def numbers_in(tree):
+    return tuple(number for number, _ in tree[2])
+
+
+def with_page(tree, number, page):
+    """The tree with another page at this number."""
+    room, root, pages = tree
+    return (room, root, tuple((one, page if one == number else old) for one, old in pages))
+
+
+def with_pages(tree, pages):
+    return (tree[0], tree[1], tuple(pages))
+
+
+def half_of(room):
+    return {3: 2, 4: 2, 5: 3, 6: 3, 7: 4, 8: 4}[room]
+
+
+def random_shape(rng, room, height, least=None):
+    """A shape of this height, of a tree of this room, unless least says that it is a kid's."""
+    if height == 1:
+        return rng.randint(0 if least is None else least, room)
+    many = rng.randint(2 if least is None else least, room)
+    return tuple(random_shape(rng, room, height - 1, half_of(room)) for _ in range(many))
+
+
+def pairs_in(shape):
+    return shape if isinstance(shape, int) else sum(pairs_in(kid) for kid in shape)
+
+
+def built(room, shape, numbers, keys, rng=None):
+    """A tree of this shape: its pages' numbers are handed out as one goes down, kids before
+    their elder's later kids; with rng node keys lie anywhere that the words of [3] let them.
+    """
+    numbers, keys, pages, leaves = list(numbers), list(keys), {}, []
+
+    def lay(part):
+        number = numbers.pop(0)
+        if isinstance(part, int):
+            mine = [keys.pop(0) for _ in range(part)]
+            pages[number] = ["leaf", tuple((key, key % 97) for key in mine), 0]
+            leaves.append(number)
+            return number, mine
+        laid = [lay(kid) for kid in part]
+        between = []
+        for (_, left), (_, right) in zip(laid, laid[1:]):
+            between.append(rng.randint(left[-1] + 1, right[0]) if rng else right[0])
+        pages[number] = ["node", tuple(between), tuple(kid for kid, _ in laid)]
+        return number, [key for _, mine in laid for key in mine]
+
+    root, _ = lay(shape)
+    for left, right in zip(leaves, leaves[1:]):
+        pages[left][2] = right
+    return (room, root, tuple((number, tuple(pages[number])) for number in sorted(pages)))
+
+
+def pages_in(shape):
+    return 1 if isinstance(shape, int) else 1 + sum(pages_in(kid) for kid in shape)
+
+
+def random_tree(rng, room, height, greatest=10 ** 9):
+    """A sound tree of this height, of 400 pages at most, with its numbers and keys anywhere."""
+    shape = random_shape(rng, room, height)
+    while pages_in(shape) > 400:
+        shape = random_shape(rng, room, height)
+    numbers = rng.sample(range(1, rng.choice((1000, 10 ** 6)) + 1), pages_in(shape))
+    keys = sorted(rng.sample(range(0, greatest + 1), pairs_in(shape)))
+    return built(room, shape, numbers, keys, rng)
