@@ -1,0 +1,1 @@
+"""What is done to trees: puts and drops."""

@@ -1,0 +1,69 @@
+"""The names, arguments and kinds of the interface, each in the file that lists it."""
+
+import importlib
+import inspect
+import unittest
+
+FUNCTIONS = {
+    "latchgrove.pages.trees": {
+        "is_tree": "(thing)", "empty": "(*, room=4)", "pairs_of": "(tree)", "height_of": "(tree)",
+        "page_at": "(tree, number)", "by_rank": "(tree)"},
+    "latchgrove.pages.looks": {
+        "way_to": "(tree, key)", "value_at": "(tree, key)", "stretch": "(tree, low, high)"},
+    "latchgrove.deeds.puts": {
+        "put": "(tree, key, value)", "safe_for_put": "(tree, number, key)", "planted": "(pairs, *, room=4)"},
+    "latchgrove.deeds.drops": {
+        "drop": "(tree, key)", "safe_for_drop": "(tree, number, key)", "mate_of": "(tree, number)"},
+    "latchgrove.shapes.counts": {
+        "many_shapes": "(many, *, room=4)", "shape_at": "(many, number, *, room=4)",
+        "number_of": "(shape, *, room=4)"},
+    "latchgrove.shapes.trees": {"shape_of": "(tree)", "tree_by": "(shape, pairs, *, room=4)"},
+}
+
+
+class InterfaceTest(unittest.TestCase):
+    def test_names_and_arguments(self):
+        for place, functions in FUNCTIONS.items():
+            module = importlib.import_module(place)
+            for name, arguments in functions.items():
+                function = getattr(module, name)
+                self.assertTrue(inspect.isfunction(function))
+                self.assertEqual(function.__module__, place)
+                self.assertEqual(str(inspect.signature(function)), arguments, name)
+
+    def test_told_rows_are_tuples(self):
+        from latchgrove.deeds.drops import drop
+        from latchgrove.deeds.puts import planted, put
+        from latchgrove.shapes.counts import shape_at
+        from latchgrove.shapes.trees import shape_of, tree_by
+
+        def only_tuples(thing):
+            self.assertIn(type(thing), (tuple, int, str, type(None)))
+            for part in thing if type(thing) is tuple else ():
+                only_tuples(part)
+
+        pairs = tuple((key, key) for key in range(30))
+        tree = planted(pairs)
+        only_tuples(tree)
+        only_tuples(put(tree, 31, 1))
+        only_tuples(put(tree, 31, 1)[0])
+        for key in range(30):
+            only_tuples(drop(tree, key))
+            tree = drop(tree, key)[0]
+        only_tuples(shape_of(planted(pairs)))
+        for number in range(9):
+            only_tuples(shape_at(30, number))
+            only_tuples(tree_by(shape_at(30, number), pairs))
+
+    def test_what_is_told_may_be_handed_on(self):
+        from latchgrove.deeds.puts import planted
+        from latchgrove.pages.trees import is_tree, pairs_of
+        from latchgrove.shapes.counts import number_of, shape_at
+        from latchgrove.shapes.trees import shape_of, tree_by
+        pairs = tuple((key, key) for key in range(60))
+        for room in range(3, 9):
+            shape = shape_of(planted(pairs, room=room))
+            again = shape_at(60, number_of(shape, room=room), room=room)
+            self.assertEqual(again, shape)
+            tree = tree_by(again, pairs_of(planted(pairs, room=room)), room=room)
+            self.assertTrue(is_tree(tree))
