@@ -1,6 +1,6 @@
 """Drops: a pair goes out of a tree, and pages left with too few parts get some or are gone."""
 
-from latchgrove.deeds.splits import joined, split
+from latchgrove.deeds.splits import joined, parted
 from latchgrove.errors import NoPage
 from latchgrove.pages.books import Book, mate_in, value_in
 from latchgrove.pages.needs import need_key, need_page, need_tree
@@ -47,7 +47,7 @@ def mend(book, elder, number):
     if book.many_parts(mate) > book.half:
         # A part nearer to the page than to its mate changes sides.
         cut = book.many_parts(left) + (-1 if mate == left else 1)
-        book.pages[left], key, book.pages[right] = split(whole, cut, right)
+        book.pages[left], key, book.pages[right] = parted(whole, cut, right)
         book.pages[elder] = ("node", (*keys[:at], key, *keys[at + 1:]), kids)
     else:
         book.pages[left] = whole

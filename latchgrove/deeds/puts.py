@@ -1,6 +1,6 @@
 """Puts: a pair goes into a tree, and pages that get too many parts are parted."""
 
-from latchgrove.deeds.splits import split
+from latchgrove.deeds.splits import parted
 from latchgrove.errors import NoPairs
 from latchgrove.pages.books import Book, value_in
 from latchgrove.pages.kinds import are_pairs
@@ -48,7 +48,7 @@ def part(book, number):
     page = book.pages[number]
     new = book.free_number()
     cut = book.many_parts(number) - book.half
-    left, key, right = split(page, cut, new)
+    left, key, right = parted(page, cut, new)
     book.pages[number] = left
     book.pages[new] = right
     return key, new

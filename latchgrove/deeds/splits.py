@@ -8,7 +8,7 @@ def joined(left, right, key):
     return ("node", (*left[1], key, *right[1]), left[2] + right[2])
 
 
-def split(page, cut, right):
+def parted(page, cut, right):
     """The page's first parts, so many as cut says, and the others, which page right gets.
 
     Told are the left page, the key between both, the right page.
