@@ -13,6 +13,47 @@ ANYTHING = (
 )
 NO_WHOLE = tuple(thing for thing in ANYTHING if type(thing) is not int)
 
+# What tests draw from: written once, so that each run of a test draws the same.
+NUMBERS = (
+    271828, 182845, 904523, 536028, 747135, 266249, 775724, 709369, 995957, 496696, 762772, 407663, 35354, 759457,
+    138217, 852516, 642742, 746639, 193200, 305992, 181741, 359662, 904357, 290033, 429526, 59563, 73813, 232862,
+    794349, 76323, 382988, 75319, 525101, 901157, 383418, 793070, 215408, 914993, 488416, 750924, 476146, 66808,
+    226480, 16847, 741185, 374234, 544243, 710753, 907774, 499206, 955170, 276183, 860626, 133138, 458300, 75204,
+    493382, 656029,
+)
+
+
+class Drawn:
+    """Draws numbers by the written list: each stirs what the ones ahead of it left."""
+
+    def __init__(self, seed):
+        self.seed, self.at = seed + 1, 0
+
+    def below(self, many):
+        self.at += 1
+        self.seed = (self.seed * 1103515 + NUMBERS[self.at % len(NUMBERS)] + self.at // len(NUMBERS)) % (2 ** 61 - 1)
+        return self.seed // 1009 % many
+
+    def random(self):
+        return self.below(10 ** 6) / 10 ** 6
+
+    def randint(self, low, high):
+        return low + self.below(high - low + 1)
+
+    def choice(self, things):
+        return things[self.below(len(things))]
+
+    def shuffle(self, things):
+        for at in range(len(things) - 1, 0, -1):
+            other = self.below(at + 1)
+            things[at], things[other] = things[other], things[at]
+
+    def sample(self, things, many):
+        drawn = {}
+        while len(drawn) < many:
+            drawn[self.choice(things)] = True
+        return list(drawn)
+
 
 def outcome(function, *arguments, **named):
     """What a call tells, or the class of what it raises."""
@@ -90,3 +131,38 @@ def random_tree(rng, room, height, greatest=10 ** 9):
     numbers = rng.sample(range(1, rng.choice((1000, 10 ** 6)) + 1), pages_in(shape))
     keys = sorted(rng.sample(range(0, greatest + 1), pairs_in(shape)))
     return built(room, shape, numbers, keys, rng)
+
+
+def random_deed(rng, greatest, words=("find", "put", "put", "drop", "drop", "span", "walk")):
+    """A deed of one of these words, of keys from 0 to greatest."""
+    word, key = rng.choice(words), rng.randint(0, greatest)
+    if word == "put":
+        return (word, key, rng.randint(0, 9))
+    if word in ("span", "walk"):
+        return (word, key, rng.randint(key + 1, greatest + 1))
+    return (word, key)
+
+
+def plan_of(words):
+    """A plan written as "+5" (takes page 5 shared), "*5" (alone), "-5" (lets it)."""
+    return tuple(("let", int(word[1:])) if word[0] == "-" else ("take", int(word[1:]), word[0] == "*")
+                 for word in words.split())
+
+
+def random_plans(draw, many, pages, steps, rising=False):
+    """Plans of at most so many steps; rising ones take each page above all that they hold."""
+    plans = []
+    for _ in range(many):
+        plan, held = [], []
+        for _ in range(draw.randint(0, steps)):
+            page = draw.randint(0, pages - 1)
+            if page in held:
+                held.remove(page)
+                plan.append(("let", page))
+            elif len(plan) + len(held) + 2 <= steps and not (rising and held and page < max(held)):
+                held.append(page)
+                plan.append(("take", page, draw.randint(0, 1) == 1))
+        while held:
+            plan.append(("let", held.pop(draw.randint(0, len(held) - 1))))
+        plans.append(tuple(plan))
+    return tuple(plans)

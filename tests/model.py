@@ -7,6 +7,31 @@ import bisect
 from tests.helpers import half_of
 
 
+class PlainMap:
+    """The plain map: a list of keys beside a list of values."""
+
+    def __init__(self, pairs):
+        self.keys, self.values = [key for key, _ in pairs], [value for _, value in pairs]
+
+    def pairs(self):
+        return tuple(zip(self.keys, self.values))
+
+    def do(self, deed):
+        at = bisect.bisect_left(self.keys, deed[1])
+        if deed[0] in ("span", "walk"):
+            return self.pairs()[at:bisect.bisect_left(self.keys, deed[2])]
+        stands = at < len(self.keys) and self.keys[at] == deed[1]
+        answer = self.values[at] if stands else None
+        if deed[0] == "put" and stands:
+            self.values[at] = deed[2]
+        elif deed[0] == "put":
+            self.keys.insert(at, deed[1])
+            self.values.insert(at, deed[2])
+        elif deed[0] == "drop" and stands:
+            del self.keys[at], self.values[at]
+        return answer
+
+
 class Model:
     def __init__(self, tree):
         self.room, self.root, pages = tree

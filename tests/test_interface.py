@@ -14,10 +14,20 @@ FUNCTIONS = {
         "put": "(tree, key, value)", "safe_for_put": "(tree, number, key)", "planted": "(pairs, *, room=4)"},
     "latchgrove.deeds.drops": {
         "drop": "(tree, key)", "safe_for_drop": "(tree, number, key)", "mate_of": "(tree, number)"},
+    "latchgrove.deeds.rows": {
+        "is_deed": "(thing)", "done": "(tree, deeds)", "plainly": "(pairs, deeds)", "unlike": "(one, other)"},
+    "latchgrove.latches.ranks": {
+        "are_plans": "(thing)", "ranks_for": "(plans)", "shows_ranks": "(plans, thing)"},
     "latchgrove.shapes.counts": {
         "many_shapes": "(many, *, room=4)", "shape_at": "(many, number, *, room=4)",
         "number_of": "(shape, *, room=4)"},
     "latchgrove.shapes.trees": {"shape_of": "(tree)", "tree_by": "(shape, pairs, *, room=4)"},
+}
+CLASSES = {
+    ("latchgrove.latches.table", "Latches"): {
+        "__init__": "(self)", "take": "(self, hand, page, *, alone=False)", "let": "(self, hand, page)",
+        "holders": "(self, page)", "queue": "(self, page)", "held": "(self, hand)", "awaited": "(self, hand)",
+        "ring": "(self)", "__eq__": "(self, other)", "__len__": "(self)"},
 }
 
 
@@ -30,6 +40,16 @@ class InterfaceTest(unittest.TestCase):
                 self.assertTrue(inspect.isfunction(function))
                 self.assertEqual(function.__module__, place)
                 self.assertEqual(str(inspect.signature(function)), arguments, name)
+
+    def test_classes_and_their_methods(self):
+        for (place, name), methods in CLASSES.items():
+            module = importlib.import_module(place)
+            one = getattr(module, name)
+            self.assertTrue(inspect.isclass(one))
+            self.assertEqual(one.__module__, place)
+            for method, arguments in methods.items():
+                self.assertIn(method, vars(one))
+                self.assertEqual(str(inspect.signature(vars(one)[method])), arguments, method)
 
     def test_told_rows_are_tuples(self):
         from latchgrove.deeds.drops import drop

@@ -182,6 +182,9 @@ class LanguageTest(unittest.TestCase):
         assigned = {node.attr for _, _, module in self.each() for node in ast.walk(module)
                     if isinstance(node, ast.Attribute) and isinstance(node.ctx, ast.Store)}
         self.assertFalse(own & assigned)
+        # Where a class has __eq__, rows are not sorted in place.
+        self.assertFalse(any(isinstance(node, ast.Attribute) and node.attr == "sort"
+                             for _, _, module in self.each() for node in ast.walk(module)))
         values = set(dir(str)) | set(dir(list)) | set(dir(dict)) | set(dir(set)) | set(dir(int)) | set(dir(bytes))
         for name, text, module in self.each():
             for node in ast.walk(module):

@@ -4,6 +4,9 @@ import unittest
 
 from latchgrove.deeds.drops import drop
 from latchgrove.deeds.puts import planted, put
+from latchgrove.deeds.rows import done, plainly, unlike
+from latchgrove.latches.ranks import ranks_for, shows_ranks
+from latchgrove.latches.table import Latches
 from latchgrove.pages.looks import stretch, value_at, way_to
 from latchgrove.shapes.counts import many_shapes, number_of, shape_at
 from latchgrove.shapes.trees import shape_of, tree_by
@@ -21,6 +24,18 @@ class ReadmeTest(unittest.TestCase):
         self.assertEqual(value_at(tree, 20), 7)
         self.assertEqual(way_to(tree, 40), (3, 2))
         self.assertEqual(stretch(tree, 20, 40), ((20, 7), (30, 3)))
+        tree, answers = done(tree, (("find", 10), ("put", 10, 8), ("span", 0, 21)))
+        self.assertEqual(answers, (1, 1, ((10, 8), (20, 7))))
+        self.assertEqual(plainly(((10, 1),), (("drop", 10), ("find", 10))), ((), (1, None)))
+        self.assertEqual(unlike(tree, put(tree, 40, 5)[0]),
+                         ((2, ("leaf", ((30, 3), (40, 4)), 0), ("leaf", ((30, 3), (40, 5)), 0)),))
+        latches = Latches()
+        self.assertIs(latches.take(0, 5, alone=True), True)
+        self.assertIs(latches.take(1, 5), False)
+        self.assertEqual(latches.let(0, 5), ((1, False),))
+        plans = ((("take", 1, True), ("take", 2, True), ("let", 1), ("let", 2)),)
+        self.assertEqual(ranks_for(plans), ("ranks", ((1, 0), (2, 1))))
+        self.assertIs(shows_ranks(plans, ("ranks", ((1, -3), (2, 40)))), True)
         self.assertEqual(shape_of(tree), (2, 2))
         self.assertEqual(many_shapes(6, room=4), 4)
         self.assertEqual(shape_at(6, 1), (2, 4))

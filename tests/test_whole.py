@@ -6,9 +6,11 @@ import unittest
 
 from latchgrove.deeds.drops import drop
 from latchgrove.deeds.puts import put
+from latchgrove.deeds.rows import done, plainly, unlike
 from latchgrove.pages.looks import value_at
 from latchgrove.pages.trees import empty, is_tree, pairs_of
-from tests.model import Model
+from tests.helpers import Drawn, random_deed
+from tests.model import Model, PlainMap
 
 
 class WholeTest(unittest.TestCase):
@@ -84,3 +86,36 @@ class WholeTest(unittest.TestCase):
             for key in keys[::2] + keys[1::2]:
                 self.drop(key)
             self.assertEqual(len(self.tree[2]), 1)
+
+    def laid_over(self, tree, rows):
+        """The tree with the pages behind in the place of those ahead."""
+        pages = {0: ("head", tree[1]), **dict(tree[2])}
+        for number, before, after in rows:
+            self.assertEqual(pages.pop(number, None), before)
+            if after is not None:
+                pages[number] = after
+        head = pages.pop(0)
+        return (tree[0], head[1], tuple(sorted(pages.items())))
+
+    def test_long_rows_of_all_deeds(self):
+        draw = Drawn(20)
+        for room in range(3, 9):
+            tree, plain, deeds, answers = empty(room=room), PlainMap(()), [], []
+            for turn in range(250):
+                more = ("put", "put", "put", "drop") if turn // 60 % 2 == 0 else ("put", "drop", "drop", "drop")
+                deed = random_deed(draw, 50, more + ("find", "span", "walk"))
+                deeds.append(deed)
+                answers.append(plain.do(deed))
+                after, told = done(tree, (deed,))
+                self.assertEqual(told, (answers[-1],))
+                self.assertIs(is_tree(after), True)
+                self.assertEqual(pairs_of(after), plain.pairs())
+                self.assertEqual(plainly(pairs_of(tree), (deed,)), (plain.pairs(), told))
+                rows = unlike(tree, after)
+                self.assertEqual(self.laid_over(tree, rows), after)
+                self.assertEqual(rows == (), after == tree)
+                if deed[0] in ("find", "span", "walk"):
+                    self.assertEqual(rows, ())
+                tree = after
+            self.assertEqual(done(empty(room=room), tuple(deeds)), (tree, tuple(answers)))
+            self.assertEqual(plainly((), tuple(deeds)), (plain.pairs(), tuple(answers)))

@@ -1,1 +1,1 @@
-"""What is done to trees: puts and drops."""
+"""What is done to trees: puts, drops, and rows of deeds."""

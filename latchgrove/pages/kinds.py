@@ -56,9 +56,9 @@ def are_pairs(thing):
     return isinstance(thing, tuple) and all([is_pair(pair) for pair in thing])
 
 
-def are_rising(numbers):
-    """Whether each whole number is greater than the one ahead of it."""
-    return all([one < other for one, other in zip(numbers, numbers[1:])])
+def are_rising(things):
+    """Whether each of these numbers, or rows of them, is greater than the one ahead of it."""
+    return all([one < other for one, other in zip(things, things[1:])])
 
 
 def are_rising_pairs(thing):

@@ -1,0 +1,1 @@
+"""Latches of pages, plans of taking and letting them, and what these lead to."""
