@@ -30,6 +30,8 @@ class Drawn:
         self.seed, self.at = seed + 1, 0
 
     def below(self, many):
+        if many > 10 ** 9:
+            return (self.below(many // 10 ** 9 + 1) * 10 ** 9 + self.below(10 ** 9)) % many
         self.at += 1
         self.seed = (self.seed * 1103515 + NUMBERS[self.at % len(NUMBERS)] + self.at // len(NUMBERS)) % (2 ** 61 - 1)
         return self.seed // 1009 % many
@@ -40,6 +42,9 @@ class Drawn:
     def randint(self, low, high):
         return low + self.below(high - low + 1)
 
+    def randrange(self, many):
+        return self.below(many)
+
     def choice(self, things):
         return things[self.below(len(things))]
 
@@ -49,10 +54,10 @@ class Drawn:
             things[at], things[other] = things[other], things[at]
 
     def sample(self, things, many):
-        drawn = {}
-        while len(drawn) < many:
-            drawn[self.choice(things)] = True
-        return list(drawn)
+        places = {}
+        while len(places) < many:
+            places[self.below(len(things))] = True
+        return [things[place] for place in places]
 
 
 def outcome(function, *arguments, **named):
@@ -166,3 +171,17 @@ def random_plans(draw, many, pages, steps, rising=False):
             plan.append(("let", held.pop(draw.randint(0, len(held) - 1))))
         plans.append(tuple(plan))
     return tuple(plans)
+
+
+def tree_of(room, root, leaves, nodes=None):
+    """A tree of leaves from left to right, {number: keys}, values being keys, and nodes, {number: kids},
+    each ahead of the one that it is beneath; a node's key is the first one beneath the kid on its right.
+    """
+    pages, firsts, row = {}, {}, list(leaves)
+    for number, right in zip(row, row[1:] + [0]):
+        pages[number] = ("leaf", tuple((key, key) for key in leaves[number]), right)
+        firsts[number] = leaves[number][0] if leaves[number] else None
+    for number, kids in (nodes or {}).items():
+        pages[number] = ("node", tuple(firsts[kid] for kid in kids[1:]), tuple(kids))
+        firsts[number] = firsts[kids[0]]
+    return (room, root, tuple(sorted(pages.items())))

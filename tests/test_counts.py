@@ -1,10 +1,9 @@
 import itertools
-import random
 import unittest
 
 from latchgrove.errors import NoNumber, NoRoom, NoShape, TooMany
 from latchgrove.shapes.counts import many_shapes, number_of, shape_at
-from tests.helpers import ANYTHING, NO_WHOLE, half_of, pairs_in, random_shape
+from tests.helpers import ANYTHING, NO_WHOLE, Drawn, half_of, pairs_in, random_shape
 
 
 def all_kids(room, height, most):
@@ -68,7 +67,7 @@ class SmallOnesTest(unittest.TestCase):
 
 class GreatOnesTest(unittest.TestCase):
     def test_numbers_and_shapes_belong_together(self):
-        rng = random.Random(4)
+        rng = Drawn(4)
         for room in range(3, 9):
             for many in range(0, 61, 3):
                 count = many_shapes(many, room=room)
@@ -83,7 +82,7 @@ class GreatOnesTest(unittest.TestCase):
         def height(shape):
             return 1 if isinstance(shape, int) else 1 + height(shape[0])
 
-        rng = random.Random(5)
+        rng = Drawn(5)
         for room in range(3, 9):
             for many in (25, 41, 60):
                 count = many_shapes(many, room=room)
@@ -124,7 +123,7 @@ class GreatOnesTest(unittest.TestCase):
             self.assertEqual([many_shapes(many, room=room) for many in range(61)], total)
 
     def test_shapes_of_all_kinds_come_back(self):
-        rng = random.Random(6)
+        rng = Drawn(6)
         for room in range(3, 9):
             for height in (1, 2, 3):
                 for _ in range(10):

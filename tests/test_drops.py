@@ -1,10 +1,9 @@
-import random
 import unittest
 
 from latchgrove.deeds.drops import drop, mate_of, safe_for_drop
 from latchgrove.errors import NoKey, NoPage, NoTree
 from latchgrove.pages.trees import empty, is_tree, pairs_of
-from tests.helpers import ANYTHING, NO_WHOLE, built, numbers_in, random_tree
+from tests.helpers import ANYTHING, NO_WHOLE, Drawn, built, numbers_in, random_tree
 from tests.model import Model
 
 TOP = 10 ** 9
@@ -152,7 +151,7 @@ class NodesTest(unittest.TestCase):
         self.assertEqual(numbers_in(after), (1, 2, 3, 4, 6, 8, 9, 10))
 
     def test_any_trees_page_for_page(self):
-        rng = random.Random(12)
+        rng = Drawn(12)
         for turn in range(400):
             tree = random_tree(rng, rng.randint(3, 8), rng.randint(1, 4), rng.choice((4000, 10 ** 9)))
             kept = repr(tree)
@@ -235,7 +234,7 @@ class SafeTest(unittest.TestCase):
 
     def test_what_it_is_good_for(self):
         # Where a page on the way is safe, a drop leaves all above it alone.
-        rng = random.Random(13)
+        rng = Drawn(13)
         for turn in range(150):
             tree = random_tree(rng, rng.randint(3, 8), rng.randint(2, 4), 4000)
             pages = dict(tree[2])
@@ -278,7 +277,7 @@ class MatesTest(unittest.TestCase):
             self.assertEqual(mate_of(tree, number), mate)
 
     def test_any_trees(self):
-        rng = random.Random(14)
+        rng = Drawn(14)
         for turn in range(20):
             tree = random_tree(rng, rng.randint(3, 8), rng.randint(2, 4))
             for _, page in tree[2]:

@@ -18,6 +18,10 @@ FUNCTIONS = {
         "is_deed": "(thing)", "done": "(tree, deeds)", "plainly": "(pairs, deeds)", "unlike": "(one, other)"},
     "latchgrove.latches.ranks": {
         "are_plans": "(thing)", "ranks_for": "(plans)", "shows_ranks": "(plans, thing)"},
+    "latchgrove.latches.stuck": {"stuck_or_never": "(plans)", "shows_stuck": "(plans, thing)"},
+    "latchgrove.hands.steps": {"are_programs": "(thing)"},
+    "latchgrove.orders.records": {
+        "order_of": "(start, records)", "shows_order": "(start, records, thing)"},
     "latchgrove.shapes.counts": {
         "many_shapes": "(many, *, room=4)", "shape_at": "(many, number, *, room=4)",
         "number_of": "(shape, *, room=4)"},
@@ -28,6 +32,11 @@ CLASSES = {
         "__init__": "(self)", "take": "(self, hand, page, *, alone=False)", "let": "(self, hand, page)",
         "holders": "(self, page)", "queue": "(self, page)", "held": "(self, hand)", "awaited": "(self, hand)",
         "ring": "(self)", "__eq__": "(self, other)", "__len__": "(self)"},
+    ("latchgrove.hands.hands", "Hands"): {
+        "__init__": "(self, tree, programs, *, rule='coupled')", "step": "(self, hand)", "run": "(self, weaving)",
+        "runs": "(self)", "tree": "(self)", "latches": "(self)", "can_step": "(self, hand)",
+        "is_through": "(self, hand)", "points": "(self)", "history": "(self)", "answers": "(self)",
+        "__eq__": "(self, other)", "__len__": "(self)"},
 }
 
 
@@ -54,11 +63,15 @@ class InterfaceTest(unittest.TestCase):
     def test_told_rows_are_tuples(self):
         from latchgrove.deeds.drops import drop
         from latchgrove.deeds.puts import planted, put
+        from latchgrove.hands.hands import Hands
+        from latchgrove.latches.ranks import ranks_for
+        from latchgrove.latches.stuck import stuck_or_never
+        from latchgrove.orders.records import order_of
         from latchgrove.shapes.counts import shape_at
         from latchgrove.shapes.trees import shape_of, tree_by
 
         def only_tuples(thing):
-            self.assertIn(type(thing), (tuple, int, str, type(None)))
+            self.assertIn(type(thing), (tuple, int, str, bool, type(None)))
             for part in thing if type(thing) is tuple else ():
                 only_tuples(part)
 
@@ -70,6 +83,19 @@ class InterfaceTest(unittest.TestCase):
         for key in range(30):
             only_tuples(drop(tree, key))
             tree = drop(tree, key)[0]
+        hands = Hands(tree, ((("put", 5, 5), ("span", 0, 9)), (("walk", 0, 9), ("drop", 5))))
+        only_tuples(hands.run((0, 1) * 40))
+        for told in (hands.tree(), hands.points(), hands.history(), hands.answers(), hands.runs()):
+            only_tuples(told)
+        for table in (hands.latches(), Hands(tree, ((("find", 1),),)).latches()):
+            only_tuples((table.holders(0), table.queue(0), table.held(0), table.ring()))
+        plans = ((("take", 1, True), ("take", 2, True), ("let", 1), ("let", 2)),
+                 (("take", 2, True), ("take", 1, True), ("let", 1), ("let", 2)))
+        for told in (ranks_for(plans), ranks_for(plans[:1]), stuck_or_never(plans), stuck_or_never(plans[:1])):
+            only_tuples(told)
+        for records in ((), ((("find", 1), 5, 0, 1),), ((("put", 1, 5), None, 0, 1), (("find", 1), None, 2, 3))):
+            only_tuples(order_of((), records))
+            only_tuples(order_of(((1, 5),), records))
         only_tuples(shape_of(planted(pairs)))
         for number in range(9):
             only_tuples(shape_at(30, number))

@@ -1,8 +1,7 @@
-import random
 import unittest
 
 from latchgrove.pages.trees import is_tree
-from tests.helpers import ANYTHING, built, random_tree, with_page, with_pages
+from tests.helpers import ANYTHING, Drawn, built, random_tree, with_page, with_pages
 
 # Root 7: keys below 30 in page 3, below 60 in page 9, from 60 on in page 5.
 SMALL = (4, 7, (
@@ -29,7 +28,7 @@ class SoundTreesTest(unittest.TestCase):
                 self.sound((room, 10 ** 6, ((10 ** 6, ("leaf", tuple((k, k) for k in range(many)), 0)),)))
 
     def test_any_sound_tree(self):
-        rng = random.Random(1)
+        rng = Drawn(1)
         for room in range(3, 9):
             for height in (1, 2, 3, 4):
                 for _ in range(15 if height < 4 else 2):
@@ -315,7 +314,7 @@ class RandomBreaksTest(unittest.TestCase):
         return len({depth for _, depth, _ in leaves}) == 1 and [right for _, _, right in leaves] == nexts
 
     def test_one_number_changed(self):
-        rng = random.Random(2)
+        rng = Drawn(2)
         told = {True: 0, False: 0}
         for turn in range(600):
             tree = random_tree(rng, rng.randint(3, 8), rng.randint(1, 3), 400)

@@ -1,10 +1,9 @@
-import random
 import unittest
 
 from latchgrove.errors import NoKey, NoStretch, NoTree
 from latchgrove.pages.looks import stretch, value_at, way_to
 from latchgrove.pages.trees import empty, pairs_of
-from tests.helpers import ANYTHING, NO_WHOLE, random_tree
+from tests.helpers import ANYTHING, NO_WHOLE, Drawn, random_tree
 
 TOP = 10 ** 9
 # Node keys 25, 50 are no pairs' keys; 70 is one.
@@ -40,7 +39,7 @@ class WaysTest(unittest.TestCase):
         self.assertEqual(value_at((4, 1, ((1, ("leaf", ((5, 0),), 0)),)), 5), 0)
 
     def test_any_trees(self):
-        rng = random.Random(7)
+        rng = Drawn(7)
         for turn in range(40):
             tree = random_tree(rng, rng.randint(3, 8), rng.randint(1, 4), 4000)
             pages, pairs = dict(tree[2]), dict(pairs_of(tree))
@@ -78,7 +77,7 @@ class StretchesTest(unittest.TestCase):
         self.assertEqual(stretch(empty(), 0, TOP + 1), ())
 
     def test_any_trees(self):
-        rng = random.Random(8)
+        rng = Drawn(8)
         for turn in range(40):
             tree = random_tree(rng, rng.randint(3, 8), rng.randint(1, 4), 4000)
             pairs = pairs_of(tree)

@@ -1,10 +1,9 @@
-import random
 import unittest
 
 from latchgrove.deeds.puts import planted, put, safe_for_put
 from latchgrove.errors import NoKey, NoPage, NoPairs, NoRoom, NoTree, NoValue
 from latchgrove.pages.trees import empty, is_tree, pairs_of
-from tests.helpers import ANYTHING, NO_WHOLE, built, numbers_in, random_tree
+from tests.helpers import ANYTHING, NO_WHOLE, Drawn, built, numbers_in, random_tree
 from tests.model import Model
 
 TOP = 10 ** 9
@@ -123,7 +122,7 @@ class NodesTest(unittest.TestCase):
             self.assertEqual(pages[number], dict(tree[2])[number])
 
     def test_any_trees_page_for_page(self):
-        rng = random.Random(9)
+        rng = Drawn(9)
         for turn in range(400):
             tree = random_tree(rng, rng.randint(3, 8), rng.randint(1, 4), rng.choice((4000, 10 ** 9)))
             kept = repr(tree)
@@ -187,7 +186,7 @@ class SafeTest(unittest.TestCase):
 
     def test_what_it_is_good_for(self):
         # Where a page on the way is safe, a put leaves all above it alone.
-        rng = random.Random(10)
+        rng = Drawn(10)
         for turn in range(150):
             tree = random_tree(rng, rng.randint(3, 8), rng.randint(2, 4), 4000)
             model = Model(tree)
@@ -224,7 +223,7 @@ class PlantedTest(unittest.TestCase):
             self.assertEqual(planted((), room=room), empty(room=room))
 
     def test_one_by_one(self):
-        rng = random.Random(11)
+        rng = Drawn(11)
         for turn in range(40):
             room = rng.randint(3, 8)
             pairs = tuple((rng.randint(0, 120), rng.randint(0, 9)) for _ in range(rng.randint(0, 150)))

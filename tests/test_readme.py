@@ -5,8 +5,12 @@ import unittest
 from latchgrove.deeds.drops import drop
 from latchgrove.deeds.puts import planted, put
 from latchgrove.deeds.rows import done, plainly, unlike
+from latchgrove.hands.hands import Hands
+from latchgrove.hands.steps import HOPEFUL
 from latchgrove.latches.ranks import ranks_for, shows_ranks
+from latchgrove.latches.stuck import shows_stuck, stuck_or_never
 from latchgrove.latches.table import Latches
+from latchgrove.orders.records import order_of, shows_order
 from latchgrove.pages.looks import stretch, value_at, way_to
 from latchgrove.shapes.counts import many_shapes, number_of, shape_at
 from latchgrove.shapes.trees import shape_of, tree_by
@@ -36,6 +40,20 @@ class ReadmeTest(unittest.TestCase):
         plans = ((("take", 1, True), ("take", 2, True), ("let", 1), ("let", 2)),)
         self.assertEqual(ranks_for(plans), ("ranks", ((1, 0), (2, 1))))
         self.assertIs(shows_ranks(plans, ("ranks", ((1, -3), (2, 40)))), True)
+        crossed = ((("take", 1, True), ("take", 2, True), ("let", 1), ("let", 2)),
+                   (("take", 2, True), ("take", 1, True), ("let", 1), ("let", 2)))
+        self.assertEqual(stuck_or_never(crossed), ("stuck", (0, 1, 0, 1), (0, 1)))
+        self.assertIs(shows_stuck(crossed, ("stuck", (1, 0, 0, 1), (1, 0))), True)
+        hands = Hands(tree, ((("put", 35, 1),), (("find", 35), ("drop", 10))), rule=HOPEFUL)
+        self.assertEqual(hands.step(0), ("take", 0, False, True))
+        self.assertEqual(hands.run((1, 0, 0)), (("take", 0, False, True), ("take", 3, False, True), ("let", 0)))
+        while not (hands.is_through(0) and hands.is_through(1)):
+            hands.run((0, 1))
+        self.assertEqual((hands.answers(), len(hands.latches())), (((None,), (1, 8)), 0))
+        records = tuple([row[1:] for row in hands.history()])
+        self.assertEqual(records[0], (("put", 35, 1), None, 0, 10))
+        self.assertEqual(order_of(((10, 8),), records), ("order", (0, 1, 2)))
+        self.assertIs(shows_order(((10, 8),), records, ("order", (1, 0, 2))), False)
         self.assertEqual(shape_of(tree), (2, 2))
         self.assertEqual(many_shapes(6, room=4), 4)
         self.assertEqual(shape_at(6, 1), (2, 4))

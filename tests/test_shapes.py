@@ -1,11 +1,10 @@
-import random
 import unittest
 
 from latchgrove.errors import NoPairs, NoRoom, NoShape, NoTree
 from latchgrove.pages.trees import empty, height_of, is_tree, pairs_of
 from latchgrove.shapes.counts import many_shapes, shape_at
 from latchgrove.shapes.trees import shape_of, tree_by
-from tests.helpers import ANYTHING, NO_WHOLE, built, pages_in, pairs_in, random_shape, random_tree
+from tests.helpers import ANYTHING, NO_WHOLE, Drawn, built, pages_in, pairs_in, random_shape, random_tree
 
 
 def pairs_upto(many, step=3):
@@ -20,7 +19,7 @@ class ShapeOfTest(unittest.TestCase):
         self.assertEqual(shape_of(tree), ((2, 3), (2, 2, 3)))
 
     def test_any_trees(self):
-        rng = random.Random(15)
+        rng = Drawn(15)
         for turn in range(60):
             room, height = rng.randint(3, 8), rng.randint(1, 3)
             shape = random_shape(rng, room, height)
@@ -48,7 +47,7 @@ class TreeByTest(unittest.TestCase):
             (8, ("leaf", rows[4], 0)))))
 
     def test_numbers_and_keys_of_any_shape(self):
-        rng = random.Random(16)
+        rng = Drawn(16)
         for turn in range(80):
             room, height = rng.randint(3, 8), rng.randint(1, 4)
             shape = random_shape(rng, room, height)
@@ -94,7 +93,7 @@ class TreeByTest(unittest.TestCase):
             tree_by((2, 5), pairs_upto(7))
 
     def test_a_trees_shape_and_pairs_make_one_like_it(self):
-        rng = random.Random(17)
+        rng = Drawn(17)
         for turn in range(20):
             tree = random_tree(rng, rng.randint(3, 8), rng.randint(1, 3))
             again = tree_by(shape_of(tree), pairs_of(tree), room=tree[0])

@@ -1,10 +1,9 @@
-import random
 import unittest
 
 from latchgrove.errors import NoPage, NoRoom, NoTree
 from latchgrove.pages import trees
 from latchgrove.pages.trees import by_rank, empty, height_of, is_tree, page_at, pairs_of
-from tests.helpers import ANYTHING, NO_WHOLE, built, numbers_in, random_tree, with_pages
+from tests.helpers import ANYTHING, NO_WHOLE, Drawn, built, numbers_in, random_tree, with_pages
 
 TREE = built(3, ((2, 3), (2, 2, 3)), (50, 8, 3, 9, 4, 1000, 2, 7), range(10, 130, 10))
 LEAF = (8, 6, ((6, ("leaf", (), 0)),))
@@ -44,7 +43,7 @@ class TreesTest(unittest.TestCase):
         self.assertEqual(page_at(LEAF, 6), ("leaf", (), 0))
 
     def test_of_any_trees(self):
-        rng = random.Random(3)
+        rng = Drawn(3)
         for turn in range(60):
             height = rng.randint(1, 4)
             tree = random_tree(rng, rng.randint(3, 8), height)

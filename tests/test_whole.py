@@ -1,7 +1,6 @@
 """Puts and drops in many orders, against a plain dict and the second tree of tests/model.py."""
 
 import itertools
-import random
 import unittest
 
 from latchgrove.deeds.drops import drop
@@ -44,7 +43,7 @@ class WholeTest(unittest.TestCase):
         self.assertIsNone(value_at(after, key))
 
     def test_up_and_back_down(self):
-        rng = random.Random(18)
+        rng = Drawn(18)
         for room in range(3, 9):
             for order in ("rising", "falling", "any", "zigzag"):
                 self.start(room)
@@ -68,7 +67,7 @@ class WholeTest(unittest.TestCase):
                 self.assertEqual(len(self.tree[2]), 1)
 
     def test_puts_and_drops_mixed(self):
-        rng = random.Random(19)
+        rng = Drawn(19)
         for room in range(3, 9):
             self.start(room)
             for turn in range(300):
