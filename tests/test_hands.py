@@ -363,6 +363,22 @@ class EqualTest(unittest.TestCase):
         self.same(early, late, False)
         self.assertNotEqual(early.step(0), late.step(0))
 
+    def test_copied_hands_go_on_by_themselves(self):
+        programs = ((("put", 15, 5), ("find", 10)), (("drop", 10), ("walk", 0, 50)))
+        for rule in (COUPLED, HOPEFUL, LOOSE):
+            for many in range(0, 22, 3):
+                one = hands_of(WIDE, programs, "0110", rule)
+                one.run((0, 1, 0) * many)
+                other, like = one.copied(), one.copied()
+                self.same(one, other, True)
+                for hands in (other, like):
+                    self.assertEqual((hands.points(), hands.history(), hands.answers(), hands.tree(), hands.latches(), len(hands)),
+                                     (one.points(), one.history(), one.answers(), one.tree(), one.latches(), len(one)))
+                told = other.run((0, 1, 1) * 30)
+                self.same(one, like, True)
+                self.assertEqual(one.run((0, 1, 1) * 30), told)
+                self.assertEqual((one.points(), one.history()), (other.points(), other.history()))
+
     def test_never_equal_to_a_thing_of_another_kind(self):
         class Any:
             def __eq__(self, other):

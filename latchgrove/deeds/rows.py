@@ -68,6 +68,11 @@ def unlike(one, other):
     need_tree(other)
     if one[0] != other[0]:
         raise NoRoom("trees of unlike rooms are not laid beside one another")
+    return changes_between(one, other)
+
+
+def changes_between(one, other):
+    """In what two sound trees are unlike: (number, before, after), 0 for the root's number."""
     before, after = pages_with_head(one), pages_with_head(other)
     numbers = sorted([*before, *[number for number in after if number not in before]])
     rows = [(number, before.get(number), after.get(number)) for number in numbers]

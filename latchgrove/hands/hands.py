@@ -1,12 +1,11 @@
 """Hands that do their deeds in steps at one tree, under latches."""
 
 from latchgrove.errors import NoHand
-from latchgrove.hands.minds import Mind
+from latchgrove.hands.crews import Crew
 from latchgrove.hands.steps import COUPLED, need_programs, need_rule
-from latchgrove.latches.table import Latches
-from latchgrove.pages.books import Book
 from latchgrove.pages.kinds import is_between
 from latchgrove.pages.needs import need_tree
+from latchgrove.pages.trees import empty
 
 
 class Hands:
@@ -16,11 +15,9 @@ class Hands:
         need_tree(tree)
         need_programs(programs)
         need_rule(rule)
-        self.book = Book(tree)
         self.programs = programs
         self.rule = rule
-        self.table = Latches()
-        self.minds = [None for _ in programs]
+        self.crew = Crew(tree, len(programs))
         self.told = [[] for _ in programs]
         # For each hand and each deed begun by it: how many deeds each hand had done by then.
         self.ahead = [[] for _ in programs]
@@ -34,53 +31,29 @@ class Hands:
         """Do the hand's next step and tell it; None, and no step, where the hand can't."""
         if not self.can_step(hand):
             return None
-        if self.minds[hand] is None:
+        if self.crew.minds[hand] is None:
             self.begin(hand)
-        act = self.minds[hand].acts[0]
-        if act[0] == "take":
-            told = self.take(hand, act[1], act[2])
-        elif act[0] == "let":
-            told = self.let(hand, act[1])
-        else:
-            told = self.come_to_point(hand)
+        mind = self.crew.minds[hand]
+        told = self.crew.step(hand)
+        if told[0] == "point":
+            self.come.append((hand, mind.deed, mind.answer))
+        elif not mind.acts:
+            self.end(hand)
         self.many_steps += 1
         return told
 
     def begin(self, hand):
         """Begin the hand's next deed."""
-        self.minds[hand] = Mind(self.programs[hand][len(self.told[hand])], self.rule)
+        self.crew.begin(hand, self.programs[hand][len(self.told[hand])], self.rule)
         self.begins[hand] = self.many_steps
         self.ahead[hand].append(tuple([len(answers) for answers in self.told]))
 
-    def take(self, hand, page, alone):
-        """Take a page, which the hand has at once or waits for."""
-        had = self.table.take(hand, page, alone=alone)
-        if had:
-            self.minds[hand].had(self.book)
-        return ("take", page, alone, had)
-
-    def let(self, hand, page):
-        """Let a page, which those who waited for it may have by that."""
-        given = self.table.let(hand, page)
-        if self.minds[hand].let():
-            self.end(hand)
-        for other, _ in given:
-            self.minds[other].had(self.book)
-        return ("let", page)
-
-    def come_to_point(self, hand):
-        """Do what the hand's deed does, all at once."""
-        mind = self.minds[hand]
-        mind.come_to_point(self.book)
-        self.come.append((hand, mind.deed, mind.answer))
-        return ("point", mind.answer)
-
     def end(self, hand):
         """The hand's deed is done with the step that is going on."""
-        mind = self.minds[hand]
+        mind = self.crew.minds[hand]
         self.told[hand].append(mind.answer)
         self.ended.append((hand, mind.deed, mind.answer, self.begins[hand], self.many_steps))
-        self.minds[hand] = None
+        self.crew.minds[hand] = None
 
     def run(self, weaving):
         """Let the hands of the weaving step one behind another; what each step tells."""
@@ -101,15 +74,15 @@ class Hands:
 
     def tree(self):
         """The tree as it is now."""
-        return self.book.tree()
+        return self.crew.book.tree()
 
     def latches(self):
         """A copy of the latches as they are now."""
-        return self.table.copied()
+        return self.crew.table.copied()
 
     def can_step(self, hand):
         """Whether the hand is not through and does not wait."""
-        return not self.is_through(hand) and self.table.awaited(hand) is None
+        return not self.is_through(hand) and not self.crew.waits(hand)
 
     def is_through(self, hand):
         """Whether all deeds of the hand are done."""
@@ -133,16 +106,28 @@ class Hands:
         """For each hand the answers of its deeds done."""
         return tuple([tuple(answers) for answers in self.told])
 
-    def likeness(self):
+    def state(self):
         """All that makes two of these equal."""
-        minds = [None if mind is None else mind.all_told() for mind in self.minds]
-        return (self.tree(), self.answers(), minds, self.ahead)
+        return (*self.crew.state(), self.answers(), tuple([tuple(begun) for begun in self.ahead]))
+
+    def copied(self):
+        """Hands like these, that go on by themselves; their runs, which were these ones' own, stay behind."""
+        # Made of an empty tree: the tree that takes its place need not be looked through again.
+        other = Hands(empty(), self.programs, rule=self.rule)
+        other.crew = self.crew.copied()
+        other.told = [list(answers) for answers in self.told]
+        other.ahead = [list(begun) for begun in self.ahead]
+        other.begins = list(self.begins)
+        other.many_steps = self.many_steps
+        other.come = list(self.come)
+        other.ended = list(self.ended)
+        return other
 
     def __eq__(self, other):
         """Whether other are hands alike in all that counts for what is still to come and for orders."""
         if not isinstance(other, Hands):
             return False
-        return self.table == other.table and self.likeness() == other.likeness()
+        return self.state() == other.state()
 
     def __len__(self):
         """How many deeds are done."""

@@ -33,6 +33,16 @@ class Mind:
         """All that this one has in mind, to be laid beside another's."""
         return (self.rule, self.levels, tuple(self.acts), tuple(self.kept), self.read, self.answer)
 
+    def copied(self):
+        """A mind like this one, that goes on by itself."""
+        other = Mind(self.deed, self.rule)
+        other.levels = self.levels
+        other.acts = list(self.acts)
+        other.kept = list(self.kept)
+        other.read = self.read
+        other.answer = self.answer
+        return other
+
     def let_all_above(self):
         """Let next whatever is kept but the page had last."""
         self.acts += [("let", page) for page in self.kept[:-1]]
@@ -57,10 +67,9 @@ class Mind:
             way_had(self, book, page)
 
     def let(self):
-        """The page of the act ahead is let; tell whether that was the last of the deed."""
+        """The page of the act ahead is let; behind the last one the deed has no acts ahead."""
         _, page = self.acts.pop(0)
         self.kept.remove(page)
-        return not self.acts
 
     def come_to_point(self, book):
         """Do in the book what the deed does, all at once; let next whatever is kept."""

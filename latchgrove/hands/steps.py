@@ -23,7 +23,12 @@ def need_programs(thing):
         raise NoPrograms("programs are one to six rows of none to eight deeds")
 
 
+def is_rule(thing):
+    """Whether it is a rule, whatever it is."""
+    return thing in (COUPLED, HOPEFUL, LOOSE)
+
+
 def need_rule(thing):
     """Refuse what is no rule."""
-    if thing not in (COUPLED, HOPEFUL, LOOSE):
+    if not is_rule(thing):
         raise NoRule("a rule is COUPLED, HOPEFUL or LOOSE")

@@ -1,8 +1,16 @@
 """Whether plans can stick: a weaving that ends in a ring, or weavings to all that is come to."""
 
+from latchgrove.latches.plays import Play
 from latchgrove.latches.ranks import need_plans
-from latchgrove.latches.webs import web_of
+from latchgrove.latches.webs import web_from
 from latchgrove.pages.kinds import are_rising, is_row, is_whole
+
+MOST_STATES = 300
+
+
+def web_of(plans):
+    """All that the plans can come to."""
+    return web_from(Play(plans), len(plans), MOST_STATES)
 
 
 def stuck_or_never(plans):
@@ -30,6 +38,14 @@ def is_weaving(web, thing):
     return isinstance(thing, tuple) and all([is_whole(hand) and hand in web.hands for hand in thing])
 
 
+def behind(web, weaving):
+    """The number of the state that the weaving leads to; a hand that can't step does nothing."""
+    at = 0
+    for hand in weaving:
+        at = web.moves[at].get(hand, at)
+    return at
+
+
 def is_ring(table, thing):
     """Whether these are hands each of which waits for the next, the last for the first."""
     if not isinstance(thing, tuple) or len(thing) < 2 or not all([is_whole(hand) for hand in thing]):
@@ -41,7 +57,7 @@ def is_ring(table, thing):
 
 def sticks(web, weaving, ring):
     """Whether the ring stands behind the weaving."""
-    return is_weaving(web, weaving) and is_ring(web.plays[web.behind(weaving)].table, ring)
+    return is_weaving(web, weaving) and is_ring(web.plays[behind(web, weaving)].table, ring)
 
 
 def never_stick(web, weavings):
@@ -50,7 +66,7 @@ def never_stick(web, weavings):
         return False
     if () not in weavings or not are_rising(weavings):
         return False
-    come_to = {web.behind(weaving): True for weaving in weavings}
+    come_to = {behind(web, weaving): True for weaving in weavings}
     if any([web.plays[at].table.ring() is not None for at in come_to]):
         return False
     return all([after in come_to for at in come_to for after in web.moves[at].values()])

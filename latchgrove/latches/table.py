@@ -111,6 +111,10 @@ class Latches:
         """Hands each of which waits for the next, the last for the first; None where there are none."""
         return ring_in({hand: self.blockers(hand) for hand in self.wanted})
 
+    def state(self):
+        """(page, holders, queue) of each page that anyone holds, rising; who waits, waits for a held one."""
+        return tuple([(page, self.holders(page), self.queue(page)) for page in sorted(self.holding)])
+
     def copied(self):
         """Latches like these, that go on by themselves."""
         other = Latches()
@@ -123,7 +127,7 @@ class Latches:
         """Whether other are latches that are held and waited for alike."""
         if not isinstance(other, Latches):
             return False
-        return self.holding == other.holding and self.lines == other.lines
+        return self.state() == other.state()
 
     def __len__(self):
         """How many latches are held, one for each holder."""

@@ -22,7 +22,7 @@ class Tally:
     """The counts of shapes of trees of so many pairs and a room, and of their pages."""
 
     def __init__(self, many, room):
-        self.many = many
+        self.pairs = many
         self.room = room
         self.half = half_of(room)
         # Behind the whole tree there is one way to go on, and no pair may be left.
@@ -51,11 +51,11 @@ class Tally:
     def by_height(self):
         """How many shapes there are of each height, from 1 on."""
         heights = range(1, len(self.kinds))
-        return [self.ways(height, self.root_least(height), self.ended)[0][self.many] for height in heights]
+        return [self.ways(height, self.root_least(height), self.ended)[0][self.pairs] for height in heights]
 
     def shape_by(self, height, number):
         """The shape of this number among those of this height."""
-        return self.page_by(height, self.root_least(height), self.ended, self.many, number)[0]
+        return self.page_by(height, self.root_least(height), self.ended, self.pairs, number)[0]
 
     def page_by(self, height, least, behind, left, number):
         """The page's shape by the number among all ways from here on; then the pairs left
@@ -78,7 +78,7 @@ class Tally:
 
     def number_by(self, height, shape):
         """The number of the shape among those of this height."""
-        return self.ways_ahead(height, self.root_least(height), self.ended, self.many, shape)[0]
+        return self.ways_ahead(height, self.root_least(height), self.ended, self.pairs, shape)[0]
 
     def ways_ahead(self, height, least, behind, left, shape):
         """How many of the ways from here on come ahead of those that begin with this page;
