@@ -22,6 +22,17 @@ FUNCTIONS = {
     "latchgrove.hands.steps": {"are_programs": "(thing)"},
     "latchgrove.orders.records": {
         "order_of": "(start, records)", "shows_order": "(start, records, thing)"},
+    "latchgrove.orders.weavings": {
+        "all_weavings": "(tree, programs, *, rule='coupled')",
+        "shows_weavings": "(tree, programs, thing, *, rule='coupled')",
+        "ends_of": "(tree, programs, *, rule='coupled')", "orders_of": "(tree, programs)"},
+    "latchgrove.disk.logs": {
+        "rows_for": "(one, other, *, number=1)", "is_disk": "(thing)", "fresh_disk": "(tree)"},
+    "latchgrove.disk.up": {"up": "(disk)"},
+    "latchgrove.disk.parts": {
+        "writes_up": "(disk)", "put_up": "(disk, many)", "cut_to": "(disk, number)"},
+    "latchgrove.words.texts": {
+        "tree_text": "(tree)", "read_tree": "(text)", "programs_text": "(programs)", "read_programs": "(text)"},
     "latchgrove.shapes.counts": {
         "many_shapes": "(many, *, room=4)", "shape_at": "(many, number, *, room=4)",
         "number_of": "(shape, *, room=4)"},
@@ -37,6 +48,13 @@ CLASSES = {
         "runs": "(self)", "tree": "(self)", "latches": "(self)", "can_step": "(self, hand)",
         "is_through": "(self, hand)", "points": "(self)", "history": "(self)", "answers": "(self)",
         "__eq__": "(self, other)", "__len__": "(self)"},
+    ("latchgrove.works.works", "Works"): {
+        "__init__": "(self, tree, programs, *, rule='coupled')", "do": "(self, event)", "run": "(self, events)",
+        "runs": "(self)", "can": "(self)", "tree": "(self)", "disk": "(self)", "history": "(self)",
+        "points": "(self)", "__eq__": "(self, other)", "__len__": "(self)"},
+    ("latchgrove.words.desk", "Desk"): {
+        "__init__": "(self, *, room=4)", "say": "(self, row)", "many": "(self, rows)", "log": "(self)",
+        "busy": "(self)"},
 }
 
 

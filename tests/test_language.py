@@ -26,6 +26,8 @@ METHODS = set(
     "append clear copy count endswith extend find get index insert isalnum isalpha isdigit islower isspace isupper "
     "items join keys ljust lower lstrip partition pop remove replace reverse rfind rjust rpartition rsplit rstrip "
     "setdefault split splitlines startswith strip update upper values zfill bit_length".split())
+MODIFIERS = set("append clear extend insert pop remove reverse setdefault update".split())
+WRAPPERS = ("enumerate", "zip", "reversed")
 DOUBLE = {"__init__", "__eq__", "__repr__", "__str__", "__len__"}
 LIBRARY = {"heapq", "math", "itertools", "collections"}
 BARRED_NAMES = set("register mro elements open input law version_info with_traceback add_note".split())
@@ -175,6 +177,31 @@ class LanguageTest(unittest.TestCase):
                     if node.name.startswith("__"):
                         self.assertIn(node.name, DOUBLE)
             self.assertIsNone(BARRED_WORDS.search(text), name)
+
+    def test_what_a_loop_goes_over_is_not_modified_in_it(self):
+        for name, text, module in self.each():
+            for loop in [node for node in ast.walk(module) if isinstance(node, ast.For)]:
+                over = loop.iter
+                while isinstance(over, ast.Call) and isinstance(over.func, ast.Name) and over.func.id in WRAPPERS and over.args:
+                    over = over.args[0]
+                if isinstance(over, ast.Call) and isinstance(over.func, ast.Attribute) and over.func.attr in ("items", "values"):
+                    over = over.func.value
+                gone_over = ast.unparse(over)
+                for node in [one for row in loop.body for one in ast.walk(row)]:
+                    if isinstance(node, ast.Call) and isinstance(node.func, ast.Attribute) and node.func.attr in MODIFIERS:
+                        self.assertNotEqual(ast.unparse(node.func.value), gone_over, (name, node.lineno))
+                    if isinstance(node, ast.Subscript) and not isinstance(node.ctx, ast.Load):
+                        self.assertNotEqual(ast.unparse(node.value), gone_over, (name, node.lineno))
+                    if isinstance(node, (ast.Name, ast.Attribute)) and not isinstance(node.ctx, ast.Load):
+                        self.assertNotEqual(ast.unparse(node), gone_over, (name, node.lineno))
+
+    def test_finally(self):
+        for name, text, module in self.each():
+            for node in [one for one in ast.walk(module) if isinstance(one, ast.Try)]:
+                for row in node.finalbody:
+                    self.assertIsInstance(row, ast.Assign, (name, row.lineno))
+                    self.assertIsInstance(row.targets[0], (ast.Name, ast.Attribute))
+                    self.assertIsInstance(row.value, (ast.Name, ast.Attribute, ast.Constant))
 
     def test_methods(self):
         own = {node.name for _, _, module in self.each() for one in ast.walk(module) if isinstance(one, ast.ClassDef)

@@ -1,0 +1,1 @@
+"""Texts of trees and programs, and a desk that works are asked for at."""

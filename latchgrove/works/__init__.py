@@ -1,0 +1,1 @@
+"""Hands with a log and a disk, event by event."""
