@@ -12,6 +12,11 @@ PUTS = "works coupled 3 put 10 1 , put 20 2 ; find 10"
 NO_TEXTS = tuple(thing for thing in ANYTHING if type(thing) is not str) + (b"tree", ("tree",), ["tree"])
 
 
+def in_and_out(*rows):
+    """What the log has of the rows, whether they are answered or refused."""
+    return tuple((way, row) for row in rows for way in ("in", "out"))
+
+
 class DeskTest(unittest.TestCase):
     def refused(self, desk, error, *rows):
         """Each of the rows is refused, and leaves all but the log as it was."""
@@ -19,7 +24,7 @@ class DeskTest(unittest.TestCase):
         for row in rows:
             said = len(desk.log())
             self.assertEqual(outcome(desk.say, row), ("raised", error), row)
-            self.assertEqual(desk.log()[said:], (("in", row),))
+            self.assertEqual(desk.log()[said:], in_and_out(row))
             self.assertIs(desk.busy(), False)
         self.assertEqual(desk.many(("tree", "map", "can")), before)
 
@@ -102,7 +107,7 @@ class DeskTest(unittest.TestCase):
             said = len(desk.log())
             self.assertEqual(outcome(desk.many, ("step 0", "can", row, "step 0", "map")), ("raised", error))
             self.assertIs(desk.busy(), False)
-            self.assertEqual(desk.log()[said:], (("in", "step 0"), ("out", "ok"), ("in", "can"), ("out", "0 1"), ("in", row)))
+            self.assertEqual(desk.log()[said:], in_and_out("step 0", "can", row))
             # Just the first step is done: hand 1 would wait for the head.
             desk.say("step 1")
             self.assertEqual(desk.say("can"), "0")
@@ -124,35 +129,73 @@ class DeskTest(unittest.TestCase):
             self.assertIs(desk.busy(), False)
         self.assertEqual(seen, [True] * 3)
 
+    def test_out_stands_behind_the_answer(self):
+        seen = []
+
+        class Row(str):
+            def split(self, *signs):
+                seen.append(desk.log())
+                return str.split(self, *signs)
+
+        desk = Desk()
+        desk.say(Row("can"))
+        outcome(desk.say, Row("step 0"))
+        self.assertEqual(seen, [(("in", "can"),), in_and_out("can") + (("in", "step 0"),)])
+
     def test_log(self):
         desk = Desk()
         told = desk.many(("can", "tree"))
         self.assertIs(type(told), tuple)
-        for row in ("step 0", "", 5, None, (), {}, [1, [2]]):
+        self.assertEqual(desk.log(), (("in", "can"), ("out", "can"), ("in", "tree"), ("out", "tree")))
+        refused = ("step 0", "", 5, None, (), {}, [1, [2]])
+        for row in refused:
             self.assertEqual(outcome(desk.say, row)[0], "raised")
         desk.say("map")
-        self.assertEqual(desk.log(), (
-            ("in", "can"), ("out", "-"), ("in", "tree"), ("out", "4 1 / 1 leaf 0"), ("in", "step 0"), ("in", ""), ("in", 5),
-            ("in", None), ("in", ()), ("in", {}), ("in", [1, [2]]), ("in", "map"), ("out", "-")))
+        self.assertEqual(desk.log(), in_and_out("can", "tree", *refused, "map"))
         self.assertIs(type(desk.log()), tuple)
         self.assertTrue(all(type(line) is tuple for line in desk.log()))
         self.assertEqual(Desk().log(), ())
+
+    def test_log_of_each_row_that_is_answered(self):
+        desk = Desk()
+        rows = (PUTS,) + ("step 0",) * 5 + ("can", "map", "tree", "log 1", "page 1", "cut 1", "step 0", "fall", "fall 1 2", "cut 1", PUTS)
+        for many, row in enumerate(rows):
+            desk.say(row)
+            self.assertEqual(desk.log(), in_and_out(*rows[:many + 1]))
+        other = Desk()
+        other.many(rows)
+        self.assertEqual(other.log(), desk.log())
+
+    def test_what_was_told_of_a_log_stays(self):
+        desk = Desk()
+        desk.say("map")
+        told = desk.log()
+        desk.many(("can", "tree"))
+        outcome(desk.say, "nothing")
+        self.assertEqual(told, in_and_out("map"))
+        self.assertEqual(desk.log(), in_and_out("map", "can", "tree", "nothing"))
 
     def test_what_is_logged_is_the_desks_own(self):
         desk = Desk()
         for thing in ANYTHING:
             self.assertEqual(outcome(desk.say, thing), ("raised", NoText))
-        self.assertEqual(desk.log(), tuple(("in", thing) for thing in ANYTHING))
-        self.assertEqual([type(line[1]) for line in desk.log()], [type(thing) for thing in ANYTHING])
+        self.assertEqual(desk.log(), in_and_out(*ANYTHING))
+        self.assertEqual([type(line[1]) for line in desk.log()], [type(row) for _, row in in_and_out(*ANYTHING)])
         thing = [1, {"a": [2]}, ([3],)]
         outcome(desk.say, thing)
         thing[1]["a"].append(4)
         thing[2][0].append(5)
         thing.append(6)
-        self.assertEqual(desk.log()[-1], ("in", [1, {"a": [2]}, ([3],)]))
-        desk.log()[-1][1].append(7)
-        desk.log()[-1][1][1]["b"] = 8
-        self.assertEqual(desk.log()[-1], ("in", [1, {"a": [2]}, ([3],)]))
+        logged = in_and_out([1, {"a": [2]}, ([3],)])
+        self.assertEqual(desk.log()[-2:], logged)
+        # Each line of each telling is by itself: the "in" isn't the "out", nor what is told the next time.
+        for line in (-2, -1):
+            told = desk.log()
+            told[line][1].append(7)
+            told[line][1][1]["b"] = 8
+            told[line][1][2][0].append(9)
+            self.assertEqual(told[-3 - line][1], logged[0][1])
+            self.assertEqual(desk.log()[-2:], logged)
         self.assertEqual(thing, [1, {"a": [2, 4]}, ([3, 5],), 6])
 
     def test_beside_works(self):

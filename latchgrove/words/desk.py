@@ -12,7 +12,7 @@ DONE = "ok"
 
 
 class Desk:
-    """Works, and a log of all that was said to it and by it."""
+    """Works, and a log of all rows that were said to it."""
 
     def __init__(self, *, room=ROOM):
         self.works = Works(empty(room=room), NO_DEEDS)
@@ -21,21 +21,22 @@ class Desk:
 
     def say(self, row):
         """Do what the row says; tell the answer."""
-        self.said.append(("in", copied(row)))
+        kept = copied(row)
+        self.said.append(("in", kept))
         self.answering = True
         try:
-            answer = self.answer_to(row)
+            return self.answer_to(row)
         finally:
+            # A refused row has come out again, too: the log pairs each "in" with an "out".
             self.answering = False
-        self.said.append(("out", answer))
-        return answer
+            self.said.append(("out", kept))
 
     def many(self, rows):
         """Say the rows one behind another, up to the first that is refused; tell the answers."""
         return tuple([self.say(row) for row in rows])
 
     def log(self):
-        """("in", row) and ("out", row) of all that was said."""
+        """("in", row) and ("out", row) of each thing said, of refused ones, too."""
         return tuple([copied(line) for line in self.said])
 
     def busy(self):
